@@ -1,0 +1,1 @@
+"""Boxmoves: boxes with pictures, moves between them, reports with breaks."""
