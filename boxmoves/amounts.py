@@ -61,6 +61,13 @@ def rounded(amount, places):
     return (-nearest if units < 0 else nearest, places)
 
 
+def fitted(amount, before, behind):
+    """The units, at behind places, of the amount with just those figures for which there is room."""
+    units = cut(amount, behind)[0]
+    kept = abs(units) % ten_to(before + behind)
+    return -kept if units < 0 else kept
+
+
 def amount_text(amount):
     """The writing of an amount."""
     # Places below 0 would be noughts before the point: cut writes them out.

@@ -23,7 +23,7 @@ SHORT_FROM = 5
 def unfolded(text):
     """The picture with its symbols written out."""
     rows, facts = understood(text)
-    return "".join([symbol * many for symbol, many in rows])
+    return written_out(rows)
 
 
 def folded(text):
@@ -65,6 +65,20 @@ def understood(picture):
     if facts is None:
         raise NoPicture("no picture")
     return rows, facts
+
+
+def understood_as(kind, picture):
+    """The rows and the room of a picture of this kind; NoRoom, if it is none."""
+    rows = rows_of(picture)
+    facts = facts_of(rows)
+    if facts is None or facts[0] != kind:
+        raise NoRoom("a picture of another kind")
+    return rows, facts[1:]
+
+
+def written_out(rows):
+    """The symbols of rows, each as often as it stands."""
+    return "".join([symbol * many for symbol, many in rows])
 
 
 def row_text(symbol, many):
@@ -150,10 +164,9 @@ def plain_facts(rows):
 
 def edited_facts(rows):
     """The facts of the rows of edited figures, or None."""
-    lead, at = lead_of(rows)
-    place, many, nines, at = whole_part(rows, at)
-    behind, at = broken_part(rows, at, place if nines == 0 else "9")
-    tail = tail_of(rows, at)
+    lead, start = lead_of(rows)
+    place, many, nines, behind, end = body_of(rows, start)
+    tail = tail_of(rows, end)
     if place == "" or behind is None or tail is None:
         return None
     floats = place in FLOATING
@@ -167,6 +180,13 @@ def edited_facts(rows):
     if before + behind > MOST_FIGURES:
         return None
     return ("edited", len(shown) == 1, before, behind)
+
+
+def edited_parts(rows):
+    """The lead, the whole and the broken part together, and the tail of edited figures, written out."""
+    lead, start = lead_of(rows)
+    place, many, nines, behind, end = body_of(rows, start)
+    return lead, written_out(rows[start:end]), tail_of(rows, end)
 
 
 def lead_of(rows):
@@ -189,6 +209,13 @@ def floats_at(rows, at):
     while behind < len(rows) and rows[behind][0] in INSERTED:
         behind += 1
     return behind < len(rows) and rows[behind][0] == symbol
+
+
+def body_of(rows, at):
+    """What whole_part and broken_part tell of the rows from one on, and the row behind both parts."""
+    place, many, nines, at = whole_part(rows, at)
+    behind, at = broken_part(rows, at, place if nines == 0 else "9")
+    return place, many, nines, behind, at
 
 
 def whole_part(rows, at):

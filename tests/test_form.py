@@ -18,6 +18,11 @@ BARRED_NODES = (
     ast.With, ast.Match, ast.Global, ast.Nonlocal, ast.Yield, ast.YieldFrom, ast.Await, ast.AsyncFunctionDef,
     ast.GeneratorExp, ast.NamedExpr, ast.Import, ast.Div, ast.AnnAssign,
 )
+METHODS_OF_PYTHON = set(
+    "append clear copy count endswith extend find get index insert isalnum isalpha isdigit islower isspace isupper "
+    "items join keys ljust lower lstrip partition pop remove replace reverse rfind rjust rpartition rsplit rstrip "
+    "setdefault split splitlines startswith strip update upper values zfill bit_length removeprefix removesuffix".split()
+)
 BARRED_WORDS = re.compile(
     r"\b(type|typing|typing_extensions|enum|Enum|IntEnum|StrEnum|Flag|IntFlag|Generic|Protocol|ABC|ABCMeta|namedtuple"
     r"|NamedTuple|TypedDict|TYPE_CHECKING|abstractmethod)\b|dataclass|overload|contextmanager"
@@ -80,6 +85,48 @@ class FormTest(unittest.TestCase):
                     with self.subTest(file=path.name, line=node.lineno):
                         self.assertTrue(node.module.startswith("boxmoves."))
                         self.assertEqual(node.level, 0)
+
+    def test_names_are_drawn_from_the_file_that_defines_them(self):
+        for path in FILES:
+            for node in nodes_of(path):
+                if isinstance(node, ast.ImportFrom):
+                    source = PACKAGE / (node.module.removeprefix("boxmoves.") + ".py")
+                    defined = set(bound_names(ast.iter_child_nodes(ast.parse(source.read_text(encoding="utf-8")))))
+                    defined.update(re.findall(r"^(\w+) = ", source.read_text(encoding="utf-8"), re.MULTILINE))
+                    for alias in node.names:
+                        with self.subTest(file=path.name, name=alias.name):
+                            self.assertIn(alias.name, defined)
+                            self.assertIsNone(alias.asname)
+
+    def test_is_stands_beside_none_and_truths_alone(self):
+        for path in FILES:
+            for node in nodes_of(path):
+                if isinstance(node, ast.Compare) and isinstance(node.ops[0], (ast.Is, ast.IsNot)):
+                    with self.subTest(file=path.name, line=node.lineno):
+                        self.assertIn(ast.unparse(node.comparators[0]), ("None", "True", "False"))
+
+    def test_plain_parameters(self):
+        for path in FILES:
+            for node in nodes_of(path):
+                if isinstance(node, ast.arguments):
+                    with self.subTest(file=path.name):
+                        self.assertEqual((node.vararg, node.kwarg, node.posonlyargs), (None, None, []))
+
+    def test_methods(self):
+        own = {node.name for path in FILES for node in nodes_of(path) if isinstance(node, ast.FunctionDef)}
+        for path in FILES:
+            for node in nodes_of(path):
+                if isinstance(node, ast.Call) and isinstance(node.func, ast.Attribute):
+                    with self.subTest(file=path.name, line=node.lineno):
+                        self.assertIn(node.func.attr, METHODS_OF_PYTHON | own)
+
+    def test_no_name_hides_an_import(self):
+        for path in FILES:
+            nodes = nodes_of(path)
+            drawn = {alias.name for node in nodes if isinstance(node, ast.ImportFrom) for alias in node.names}
+            others = set(bound_names(node for node in nodes if not isinstance(node, ast.alias)))
+            with self.subTest(file=path.name):
+                self.assertEqual(drawn & others, set())
 
     def test_names(self):
         for path in FILES:

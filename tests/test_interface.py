@@ -25,7 +25,27 @@ FUNCTIONS = {
         "room": ("picture",),
         "size_of": ("picture",),
     },
+    "editing": {
+        "edited": ("picture", "amount"),
+        "read_edited": ("picture", "text"),
+        "texts_in_all": ("picture",),
+    },
+    "moving": {
+        "content_of": ("picture", "amount"),
+        "amount_in": ("picture", "content"),
+        "move": ("content", "picture", "other", "right"),
+        "stored": ("picture", "amount", "nearest"),
+        "blank": ("picture",),
+    },
+    "layouts": {
+        "is_layout": ("thing",),
+        "signs_in": ("layout",),
+        "where": ("layout", "path"),
+        "boxes": ("layout",),
+    },
 }
+# Handed in by their names alone, with False if nothing is said.
+BY_NAME = ("right", "nearest")
 
 
 class InterfaceTest(unittest.TestCase):
@@ -37,8 +57,10 @@ class InterfaceTest(unittest.TestCase):
                     signature = inspect.signature(getattr(module, name))
                     self.assertEqual(tuple(signature.parameters), parameters)
                     for parameter in signature.parameters.values():
-                        self.assertIs(parameter.default, parameter.empty)
-                        self.assertEqual(parameter.kind, parameter.POSITIONAL_OR_KEYWORD)
+                        by_name = parameter.name in BY_NAME
+                        self.assertIs(parameter.default, False if by_name else parameter.empty)
+                        kind = parameter.KEYWORD_ONLY if by_name else parameter.POSITIONAL_OR_KEYWORD
+                        self.assertEqual(parameter.kind, kind)
 
 
 if __name__ == "__main__":
