@@ -44,35 +44,69 @@ def signs_in(layout):
 
 def where(layout, path):
     """(start, size, picture) of what a path tells, the picture None for groups; NoPath, if there is none."""
-    if not isinstance(path, tuple) or len(path) == 0:
-        raise NoPath("no step at all")
-    start = 0
-    items = layout
-    picture = None
-    for step in path:
-        ahead, item = item_at(items, step)
-        start += ahead
-        picture = item[2] if item[0] == "box" else None
-        # Nothing lies within a box, so a step behind it finds nothing.
-        items = item[-1] if picture is None else ()
-    size = signs_in(items) if picture is None else size_of(picture)
-    return (start, size, picture)
+    start, item = found(layout, path)
+    if item[0] == "box":
+        return (start, size_of(item[2]), item[2])
+    return (start, signs_in(item[-1]), None)
 
 
 def boxes(layout):
     """The paths of all boxes, in the order of the layout."""
+    return tuple(paths_of_boxes(layout, True))
+
+
+def boxes_alike(layout, path, other):
+    """The paths of boxes, without tables, that two groups both have, in the order of the first one."""
+    others = set(paths_of_boxes(found(layout, other)[1][-1], False))
+    return [way for way in paths_of_boxes(found(layout, path)[1][-1], False) if way in others]
+
+
+def outline(layout):
+    """All items in order, as triples: how deep each lies, whether over others, and it without its own items.
+
+    Two layouts are the same just if their outlines are.
+    """
+    rows = []
+    left = [(0, item) for item in reversed(layout)]
+    while left:
+        depth, item = left.pop()
+        plain = bare(item)
+        is_box = plain[0] == "box"
+        rows.append((depth, item[0] == "over", plain if is_box else plain[:-1]))
+        if not is_box:
+            left.extend([(depth + 1, inner) for inner in reversed(plain[-1])])
+    return rows
+
+
+def found(layout, path):
+    """From which sign on lies what a path tells, and its item, the table for a table's group; NoPath, if none is."""
+    if not isinstance(path, tuple) or len(path) == 0:
+        raise NoPath("no step at all")
+    start = 0
+    items = layout
+    item = None
+    for step in path:
+        ahead, item = item_at(items, step)
+        start += ahead
+        # Nothing lies within a box, so a step behind it finds nothing.
+        items = () if item[0] == "box" else item[-1]
+    return start, item
+
+
+def paths_of_boxes(items, with_tables):
+    """A list of the paths of all boxes, or of those alone that lie in no table."""
     paths = []
-    left = last_first((), layout)
+    left = last_first((), items)
     while left:
         path, item = left.pop()
         if item[0] == "box":
             paths.append(path + (item[1],))
         elif item[0] == "group":
             left.extend(last_first(path + (item[1],), item[2]))
-        else:
+        elif with_tables:
             for number in reversed(range(item[2])):
                 left.extend(last_first(path + ((item[1], number),), item[3]))
-    return tuple(paths)
+    return paths
 
 
 def last_first(path, items):

@@ -120,13 +120,82 @@ class FormTest(unittest.TestCase):
                     with self.subTest(file=path.name, line=node.lineno):
                         self.assertIn(node.func.attr, METHODS_OF_PYTHON | own)
 
-    def test_no_name_hides_an_import(self):
+    def test_no_name_hides_an_import_or_a_class(self):
         for path in FILES:
             nodes = nodes_of(path)
+            classes = [node for node in nodes if isinstance(node, ast.ClassDef)]
+            # A method may be called like an import: it is asked of an object alone.
+            methods = [part for node in classes for part in node.body]
             drawn = {alias.name for node in nodes if isinstance(node, ast.ImportFrom) for alias in node.names}
-            others = set(bound_names(node for node in nodes if not isinstance(node, ast.alias)))
+            drawn |= {node.name for node in classes}
+            others = [node for node in nodes if not isinstance(node, (ast.alias, ast.ClassDef)) and node not in methods]
             with self.subTest(file=path.name):
-                self.assertEqual(drawn & others, set())
+                self.assertEqual(drawn & set(bound_names(others)), set())
+
+    def test_classes(self):
+        for path in FILES:
+            for node in nodes_of(path):
+                if isinstance(node, ast.ClassDef):
+                    with self.subTest(file=path.name, name=node.name):
+                        self.assertEqual((node.decorator_list, node.keywords), ([], []))
+                        self.assertLessEqual(len(node.bases), 1)
+                        names = [part.name for part in node.body if isinstance(part, ast.FunctionDef)]
+                        self.assertEqual(len(set(names)), len(names))
+                        for part in node.body:
+                            is_words = isinstance(part, ast.Expr) and isinstance(part.value, ast.Constant)
+                            self.assertTrue(is_words or isinstance(part, ast.FunctionDef))
+
+    def test_methods_and_values_of_objects(self):
+        nodes = [node for path in FILES for node in nodes_of(path)]
+        classes = [node for node in nodes if isinstance(node, ast.ClassDef)]
+        methods = {part.name for node in classes for part in node.body if isinstance(part, ast.FunctionDef)}
+        attributes = [node for node in nodes if isinstance(node, ast.Attribute)]
+        called = [node.func for node in nodes if isinstance(node, ast.Call)]
+        given = {node.attr for node in attributes if isinstance(node.ctx, ast.Store)}
+        asked = {node.attr for node in attributes if isinstance(node.ctx, ast.Load) and node not in called}
+        self.assertEqual(given & (methods | METHODS_OF_PYTHON), set())
+        self.assertEqual(asked - given, set())
+        own = {name for name in methods if not name.startswith("__")}
+        of_python = {name for kind in (str, int, list, dict, set, bytes, tuple) for name in dir(kind)}
+        self.assertEqual((own | given) & (of_python - METHODS_OF_PYTHON), set())
+
+    def test_methods_that_python_itself_asks(self):
+        for path in FILES:
+            for node in nodes_of(path):
+                if isinstance(node, ast.FunctionDef) and node.name in ("__eq__", "__len__", "__str__", "__repr__"):
+                    with self.subTest(file=path.name, name=node.name):
+                        inner = [part for row in node.body for part in ast.walk(row)]
+                        changes = (ast.Assign, ast.AugAssign, ast.Delete)
+                        self.assertEqual([part for part in inner if isinstance(part, changes)], [])
+                        self.assertIsInstance(node.body[-1], ast.Return)
+                        if node.name == "__len__":
+                            self.assertTrue(ast.unparse(node.body[-1].value).startswith("len("))
+                        if node.name == "__str__":
+                            self.assertIsInstance(node.body[-1].value, ast.JoinedStr)
+                if isinstance(node, ast.FunctionDef) and node.name == "__init__":
+                    self.assertFalse([part for part in ast.walk(node) if isinstance(part, ast.Return)])
+
+    def test_texts_within_braces(self):
+        for path in FILES:
+            for node in nodes_of(path):
+                if isinstance(node, ast.FormattedValue):
+                    with self.subTest(file=path.name, line=node.lineno):
+                        self.assertIsNone(node.format_spec)
+
+    def test_walked_on_the_spot(self):
+        takers = set("list tuple dict sorted sum any all enumerate zip bytes min max".split())
+        for path in FILES:
+            nodes = nodes_of(path)
+            walked = [node.iter for node in nodes if isinstance(node, (ast.For, ast.comprehension))]
+            for node in nodes:
+                if isinstance(node, ast.Call) and (ast.unparse(node.func) in takers or ast.unparse(node.func).endswith(".join")):
+                    walked += node.args[:1]
+                if isinstance(node, ast.Call) and ast.unparse(node.func) == "reversed":
+                    walked += [part for part in node.args if ast.unparse(part).startswith("range(")]
+            for node in nodes:
+                if isinstance(node, ast.Call) and ast.unparse(node.func) in ("zip", "enumerate", "reversed", "range"):
+                    with self.subTest(file=path.name, line=node.lineno):
+                        self.assertIn(node, walked)
 
     def test_names(self):
         for path in FILES:

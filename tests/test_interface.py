@@ -43,24 +43,78 @@ FUNCTIONS = {
         "where": ("layout", "path"),
         "boxes": ("layout",),
     },
+    "reports": {
+        "is_plan": ("thing",),
+        "is_row": ("plan", "thing"),
+        "breaks": ("plan", "rows"),
+        "report": ("plan", "rows"),
+        "in_order": ("plan", "rows"),
+    },
+    "writing": {
+        "layout_text": ("layout",),
+        "read_layout": ("text",),
+        "page_text": ("plan", "page"),
+    },
+}
+CLASSES = {
+    "areas": {
+        "Area": {
+            "__init__": ("layout",),
+            "get": ("path",),
+            "amount": ("path",),
+            "load": ("path", "text"),
+            "give": ("path", "amount"),
+            "store": ("path", "amount", "nearest"),
+            "move": ("path", "other", "right"),
+            "move_alike": ("path", "other"),
+            "signs": (),
+            "back": (),
+            "again": (),
+        },
+    },
+    "reports": {
+        "Report": {
+            "__init__": ("plan",),
+            "put": ("row",),
+            "close": (),
+            "so_far": (),
+        },
+    },
 }
 # Handed in by their names alone, with False if nothing is said.
 BY_NAME = ("right", "nearest")
 
 
 class InterfaceTest(unittest.TestCase):
-    def test_parameters_bear_their_names(self):
+    def check(self, called, names):
+        parameters = list(inspect.signature(called).parameters.values())
+        self.assertEqual(tuple(parameter.name for parameter in parameters), names)
+        for parameter in parameters:
+            by_name = parameter.name in BY_NAME
+            self.assertIs(parameter.default, False if by_name else parameter.empty)
+            self.assertEqual(parameter.kind, parameter.KEYWORD_ONLY if by_name else parameter.POSITIONAL_OR_KEYWORD)
+
+    def test_parameters_of_functions(self):
         for module_name, functions in FUNCTIONS.items():
             module = importlib.import_module("boxmoves." + module_name)
             for name, parameters in functions.items():
                 with self.subTest(module=module_name, name=name):
-                    signature = inspect.signature(getattr(module, name))
-                    self.assertEqual(tuple(signature.parameters), parameters)
-                    for parameter in signature.parameters.values():
-                        by_name = parameter.name in BY_NAME
-                        self.assertIs(parameter.default, False if by_name else parameter.empty)
-                        kind = parameter.KEYWORD_ONLY if by_name else parameter.POSITIONAL_OR_KEYWORD
-                        self.assertEqual(parameter.kind, kind)
+                    self.check(getattr(module, name), parameters)
+
+    def test_parameters_of_methods(self):
+        for module_name, classes in CLASSES.items():
+            module = importlib.import_module("boxmoves." + module_name)
+            for class_name, methods in classes.items():
+                for name, parameters in methods.items():
+                    with self.subTest(class_name=class_name, name=name):
+                        self.check(getattr(getattr(module, class_name), name), ("self",) + parameters)
+
+    def test_what_python_itself_asks(self):
+        area = importlib.import_module("boxmoves.areas").Area
+        report = importlib.import_module("boxmoves.reports").Report
+        for owner, names in ((area, ("__len__", "__eq__", "__str__")), (report, ("__len__",))):
+            for name in names:
+                self.assertIn(name, vars(owner))
 
 
 if __name__ == "__main__":
